@@ -1,0 +1,17 @@
+"""What several modules ask of any thing: whole numbers, and rows of them."""
+
+LAST_SOUND = 39
+
+
+def is_whole(thing, low, high):
+    """Whether a thing is a whole number from low to high."""
+    # Python counts True and False among its ints; here they are no numbers.
+    return isinstance(thing, int) and not isinstance(thing, bool) and low <= thing <= high
+
+
+def is_row(thing, fewest, most, high):
+    """Whether a thing is a tuple of fewest to most whole numbers, each from 0 to high."""
+    # The length is asked first, so that a long row is not walked in vain.
+    if not isinstance(thing, tuple) or not fewest <= len(thing) <= most:
+        return False
+    return all([is_whole(part, 0, high) for part in thing])
