@@ -3,6 +3,8 @@
 from signbench.errors import Missing, NoWord, TooMany, Twice
 from signbench.kinds import LAST_SOUND, is_row, is_whole
 
+MOST_WORD_SOUNDS = 6
+MOST_WORD_SIGNS = 4
 LAST_WORD_SIGN = 999
 LAST_WORD_KIND = 7
 LAST_WORD_COST = 9999
@@ -14,7 +16,7 @@ def is_word(thing):
     if not isinstance(thing, tuple) or len(thing) != 4:
         return False
     sounds, signs, kind, cost = thing
-    if not is_row(sounds, 1, 6, LAST_SOUND) or not is_row(signs, 1, 4, LAST_WORD_SIGN):
+    if not is_row(sounds, 1, MOST_WORD_SOUNDS, LAST_SOUND) or not is_row(signs, 1, MOST_WORD_SIGNS, LAST_WORD_SIGN):
         return False
     return is_whole(kind, 0, LAST_WORD_KIND) and is_whole(cost, 0, LAST_WORD_COST)
 

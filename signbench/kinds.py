@@ -1,12 +1,18 @@
 """What several modules ask of any thing: whole numbers, and rows of them."""
 
 LAST_SOUND = 39
+LAST_SIGN = 1039
+
+
+def is_number(thing):
+    """Whether a thing is a whole number."""
+    # Python counts True and False among its ints; here they are no numbers.
+    return isinstance(thing, int) and not isinstance(thing, bool)
 
 
 def is_whole(thing, low, high):
     """Whether a thing is a whole number from low to high."""
-    # Python counts True and False among its ints; here they are no numbers.
-    return isinstance(thing, int) and not isinstance(thing, bool) and low <= thing <= high
+    return is_number(thing) and low <= thing <= high
 
 
 def is_row(thing, fewest, most, high):

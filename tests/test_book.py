@@ -3,7 +3,7 @@ import unittest
 
 from signbench.book import Book
 from signbench.errors import Missing, NoWord, TooMany, Twice
-from tests.things import Numbers, other_kinds, wrong_things
+from tests.things import Numbers, book_of, other_kinds, wrong_things
 
 WORDS = [
     ((1, 2), (10,), 0, 500),
@@ -14,13 +14,6 @@ WORDS = [
     ((2, 3), (14,), 7, 9999),
     ((3,), (0,), 0, 1),
 ]
-
-
-def book_of(words):
-    book = Book()
-    for word in words:
-        book.put(word)
-    return book
 
 
 def many_words(many):
@@ -39,12 +32,12 @@ class RightWords(unittest.TestCase):
 
     def test_words_that_differ_in_sounds_signs_or_kind(self):
         words = [((1,), (2,), 3, 4), ((2,), (2,), 3, 4), ((1,), (1,), 3, 4), ((1,), (2,), 4, 4), ((1, 1), (2,), 3, 4)]
-        self.assertEqual(book_of(words).words(), sorted(words))
+        self.assertEqual(book_of(*words).words(), sorted(words))
 
 
 class WrongWords(unittest.TestCase):
     def wrong(self, thing):
-        for book in (Book(), book_of(WORDS), book_of(many_words(60))):
+        for book in (Book(), book_of(*WORDS), book_of(*many_words(60))):
             before = book.words()
             kept = copy.deepcopy(thing)
             with self.assertRaises(NoWord, msg=repr(thing)):
@@ -103,7 +96,7 @@ class PutAndTake(unittest.TestCase):
         self.assertEqual(book.words(), [])
 
     def test_twice_is_refused_whatever_the_cost(self):
-        book = book_of(WORDS)
+        book = book_of(*WORDS)
         for word in WORDS:
             for cost in (word[3], 1234):
                 with self.assertRaises(Twice):
@@ -111,7 +104,7 @@ class PutAndTake(unittest.TestCase):
         self.assertEqual(book.words(), sorted(WORDS))
 
     def test_sixty_words_and_one_more(self):
-        book = book_of(many_words(59))
+        book = book_of(*many_words(59))
         self.assertIsNone(book.put(many_words(60)[59]))
         self.assertEqual(book.words(), sorted(many_words(60)))
         with self.assertRaises(TooMany):
@@ -119,33 +112,33 @@ class PutAndTake(unittest.TestCase):
         self.assertEqual(book.words(), sorted(many_words(60)))
 
     def test_twice_goes_ahead_of_too_many(self):
-        book = book_of(many_words(60))
+        book = book_of(*many_words(60))
         for word in many_words(60):
             with self.assertRaises(Twice):
                 book.put(word[:3] + (9000,))
         self.assertEqual(book.words(), sorted(many_words(60)))
 
     def test_no_word_goes_ahead_of_both(self):
-        book = book_of(many_words(60))
+        book = book_of(*many_words(60))
         for thing in (many_words(1)[0][:3] + (10000,), many_words(61)[60][:3] + (True,), None):
             with self.assertRaises(NoWord):
                 book.put(thing)
         self.assertEqual(book.words(), sorted(many_words(60)))
 
     def test_a_full_book_has_room_again(self):
-        book = book_of(many_words(60))
+        book = book_of(*many_words(60))
         book.take(*many_words(60)[7][:3])
         book.put(many_words(61)[60])
         self.assertEqual(book.words(), sorted(many_words(61)[:7] + many_words(61)[8:]))
 
     def test_taken_out_are_the_named_words_alone(self):
         for word in WORDS:
-            book = book_of(WORDS)
+            book = book_of(*WORDS)
             book.take(*word[:3])
             self.assertEqual(book.words(), sorted(other for other in WORDS if other != word))
 
     def test_missing(self):
-        book = book_of(WORDS)
+        book = book_of(*WORDS)
         for name in (((1, 2), (10,), 2), ((1, 2), (9,), 0), ((2, 1), (10,), 0), ((1,), (10,), 0)):
             with self.assertRaises(Missing):
                 book.take(*name)
@@ -154,13 +147,13 @@ class PutAndTake(unittest.TestCase):
             Book().take((1,), (2,), 3)
 
     def test_taken_out_twice(self):
-        book = book_of(WORDS)
+        book = book_of(*WORDS)
         book.take((3,), (0,), 0)
         with self.assertRaises(Missing):
             book.take((3,), (0,), 0)
 
     def test_taken_out_and_put_in_at_another_cost(self):
-        book = book_of(WORDS)
+        book = book_of(*WORDS)
         book.take((3,), (0,), 0)
         book.put(((3,), (0,), 0, 9))
         self.assertEqual(book.cost_of((3,), (0,), 0), 9)
@@ -168,11 +161,11 @@ class PutAndTake(unittest.TestCase):
 
 class Told(unittest.TestCase):
     def test_words_are_sorted_however_they_came(self):
-        self.assertEqual(book_of(WORDS).words(), sorted(WORDS))
-        self.assertEqual(book_of(WORDS[::-1]).words(), sorted(WORDS))
+        self.assertEqual(book_of(*WORDS).words(), sorted(WORDS))
+        self.assertEqual(book_of(*WORDS[::-1]).words(), sorted(WORDS))
 
     def test_costs(self):
-        book = book_of(WORDS)
+        book = book_of(*WORDS)
         for sounds, signs, kind, cost in WORDS:
             self.assertEqual(book.cost_of(sounds, signs, kind), cost)
         for name in (((1, 2), (10,), 2), ((1, 2), (9,), 0), ((2, 1), (10,), 0)):
@@ -180,7 +173,7 @@ class Told(unittest.TestCase):
         self.assertIsNone(Book().cost_of((1,), (2,), 3))
 
     def test_standing_in_a_list_of_sounds(self):
-        book = book_of(WORDS)
+        book = book_of(*WORDS)
         sounds = [1, 2, 3, 1]
         self.assertEqual(book.standing(sounds, 0), [WORDS[3], WORDS[2], WORDS[0], WORDS[1], WORDS[4]])
         self.assertEqual(book.standing(sounds, 1), [WORDS[5]])
@@ -190,11 +183,11 @@ class Told(unittest.TestCase):
         self.assertEqual(book.standing([], 0), [])
 
     def test_standing_does_not_reach_beyond_the_sounds(self):
-        self.assertEqual(book_of(WORDS).standing([5, 1, 2], 1), [WORDS[3], WORDS[2], WORDS[0], WORDS[1]])
-        self.assertEqual(book_of(WORDS).standing([2], 0), [])
+        self.assertEqual(book_of(*WORDS).standing([5, 1, 2], 1), [WORDS[3], WORDS[2], WORDS[0], WORDS[1]])
+        self.assertEqual(book_of(*WORDS).standing([2], 0), [])
 
     def test_begun(self):
-        book = book_of(WORDS)
+        book = book_of(*WORDS)
         self.assertEqual(book.begun(()), sorted(WORDS))
         self.assertEqual(book.begun((1,)), [WORDS[3], WORDS[2], WORDS[0], WORDS[1], WORDS[4]])
         self.assertEqual(book.begun((1, 2)), [WORDS[2], WORDS[0], WORDS[1], WORDS[4]])
@@ -212,7 +205,7 @@ class Told(unittest.TestCase):
                 word = (numbers.row(1, 6, 3), numbers.row(1, 4, 3), numbers.below(3), numbers.below(10000))
                 words[word[:3]] = word
             words = list(words.values())
-            book = book_of(words)
+            book = book_of(*words)
             sounds = list(numbers.row(0, 24, 3))
             for place in range(len(sounds) + 1):
                 told = [word for word in words if list(word[0]) == sounds[place:][:len(word[0])]]
@@ -223,7 +216,7 @@ class Told(unittest.TestCase):
                 self.assertEqual(book.begun(begun), sorted(told))
 
     def test_what_is_told_is_the_askers_own(self):
-        book = book_of(WORDS)
+        book = book_of(*WORDS)
         asks = [book.words, lambda: book.standing([1, 2, 3], 0), lambda: book.begun(()), lambda: book.begun((1,))]
         for ask in asks:
             first = ask()
@@ -234,7 +227,7 @@ class Told(unittest.TestCase):
         self.assertEqual(book.words(), sorted(WORDS))
 
     def test_what_was_told_is_not_changed_later(self):
-        book = book_of(WORDS)
+        book = book_of(*WORDS)
         told = [book.words(), book.standing([1, 2], 0), book.begun(())]
         kept = copy.deepcopy(told)
         book.take((1, 2), (10,), 0)
@@ -243,7 +236,7 @@ class Told(unittest.TestCase):
 
     def test_what_is_handed_in_is_not_changed(self):
         sounds = [1, 2, 3]
-        told = book_of(WORDS).standing(sounds, 0)
+        told = book_of(*WORDS).standing(sounds, 0)
         self.assertEqual(sounds, [1, 2, 3])
         kept = list(told)
         sounds.clear()
@@ -252,13 +245,13 @@ class Told(unittest.TestCase):
 
 class Twins(unittest.TestCase):
     def test_a_twin_has_the_same_words(self):
-        twin = book_of(WORDS).twin()
+        twin = book_of(*WORDS).twin()
         self.assertIsInstance(twin, Book)
         self.assertEqual(twin.words(), sorted(WORDS))
         self.assertEqual(Book().twin().words(), [])
 
     def test_book_and_twin_know_nothing_of_one_another(self):
-        book = book_of(WORDS)
+        book = book_of(*WORDS)
         twin = book.twin()
         twin.put(((8,), (8,), 0, 8))
         twin.take((3,), (0,), 0)
@@ -268,14 +261,14 @@ class Twins(unittest.TestCase):
         self.assertEqual(twin.words(), sorted(WORDS[:6] + [((8,), (8,), 0, 8)]))
 
     def test_a_full_twin_is_full(self):
-        twin = book_of(many_words(60)).twin()
+        twin = book_of(*many_words(60)).twin()
         with self.assertRaises(TooMany):
             twin.put(many_words(61)[60])
         with self.assertRaises(Twice):
             twin.put(many_words(1)[0])
 
     def test_two_books_know_nothing_of_one_another(self):
-        first, second = book_of(WORDS), book_of(WORDS)
+        first, second = book_of(*WORDS), book_of(*WORDS)
         first.take((3,), (0,), 0)
         self.assertEqual(second.words(), sorted(WORDS))
         self.assertEqual(Book().words(), [])

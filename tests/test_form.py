@@ -88,6 +88,58 @@ class Form(unittest.TestCase):
             if isinstance(node, ast.arg):
                 self.assertFalse(hasattr(builtins, name), f"L15 {where}")
 
+    def test_names_of_a_file_are_bound_once(self):
+        for path in FILES:
+            top = ast.parse(path.read_text("utf-8")).body
+            drawn = [name.asname or name.name for row in top if isinstance(row, ast.ImportFrom) for name in row.names]
+            classes = [row.name for row in top if isinstance(row, ast.ClassDef)]
+            defs = [row.name for row in top if isinstance(row, ast.FunctionDef)]
+            given = [target.id for row in top if isinstance(row, ast.Assign) for target in row.targets]
+            bound = drawn + classes + defs + given
+            self.assertEqual(len(set(bound)), len(bound), f"L15 {path.name}")
+            local = {node.arg for row in top for node in ast.walk(row) if isinstance(node, ast.arg)}
+            for row in top:
+                if isinstance(row, (ast.FunctionDef, ast.ClassDef)):
+                    local |= {
+                        node.id for node in ast.walk(row)
+                        if isinstance(node, ast.Name) and isinstance(node.ctx, ast.Store)
+                    }
+            self.assertEqual(local & set(drawn + classes), set(), f"L15 {path.name}")
+            self.assertEqual(local & set(defs), set(), f"a local bears the name of a def: {path.name}")
+
+    def test_names_are_drawn_from_the_file_that_defines_them(self):
+        for where, node in nodes(ast.ImportFrom):
+            source = PACKAGE / (node.module.split(".")[-1] + ".py")
+            found = set()
+            for row in ast.parse(source.read_text("utf-8")).body:
+                if isinstance(row, (ast.FunctionDef, ast.ClassDef)):
+                    found.add(row.name)
+                elif isinstance(row, ast.Assign):
+                    found |= {target.id for target in row.targets}
+            for name in node.names:
+                self.assertIn(name.name, found, f"L16 {where}")
+                self.assertIsNone(name.asname, f"L16 {where}")
+
+    def test_no_two_files_draw_from_one_another(self):
+        drawn = {path.stem: set() for path in FILES}
+        for where, node in nodes(ast.ImportFrom):
+            drawn[where.split(".")[0]].add(node.module.split(".")[-1])
+        ready = set()
+        while len(ready) < len(drawn):
+            free = {name for name in drawn if name not in ready and drawn[name] <= ready}
+            self.assertTrue(free, f"L16 {sorted(set(drawn) - ready)}")
+            ready |= free
+
+    def test_sets_are_sorted_or_counted_on_the_spot(self):
+        right = set()
+        for where, node in nodes(ast.Call):
+            if isinstance(node.func, ast.Name) and node.func.id in ("sorted", "len"):
+                right |= {(where, ast.dump(part)) for part in node.args}
+        for where, node in nodes((ast.Set, ast.SetComp)):
+            self.assertIn((where, ast.dump(node)), right, f"L24 {where}")
+        for where, node in nodes(ast.Name):
+            self.assertNotIn(node.id, ("set", "frozenset"), f"L24 {where}")
+
     def test_methods(self):
         for where, node in nodes(ast.Call):
             if isinstance(node.func, ast.Attribute):
