@@ -79,10 +79,9 @@ def keeps(wish, begin, piece):
     if wish[0] == "joined":
         return begin != wish[1] and end != wish[1]
     low, high = wish[1], wish[2]
-    if begin < low < end or begin < high < end:
-        return False
     if end <= low or high <= begin:
         return True
+    # What isn't wholly ahead or behind leads over low or high, or lies between them.
     if begin != low or end != high:
         return False
     return wish[0] == "span" or piece[1] == wish[3]
