@@ -1,4 +1,4 @@
-"""What several modules ask of any thing: whole numbers, and rows of them."""
+"""What several modules ask of any thing: whole numbers, rows of them, a copy of its own."""
 
 LAST_SOUND = 39
 LAST_SIGN = 1039
@@ -21,3 +21,12 @@ def is_row(thing, fewest, most, high):
     if not isinstance(thing, tuple) or not fewest <= len(thing) <= most:
         return False
     return all([is_whole(part, 0, high) for part in thing])
+
+
+def copied(thing):
+    """The thing with new lists at all places, so that nobody else can change it."""
+    if isinstance(thing, list):
+        return [copied(part) for part in thing]
+    if isinstance(thing, tuple):
+        return tuple([copied(part) for part in thing])
+    return thing
