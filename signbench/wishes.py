@@ -4,6 +4,8 @@ from signbench.errors import NoPlace
 from signbench.kinds import is_whole
 from signbench.nets import is_piece_signs
 
+MOST_WISHES = 12
+
 
 def is_wish(n, thing):
     """Whether a thing is a wish for n places."""
