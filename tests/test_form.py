@@ -8,6 +8,7 @@ import unittest
 
 PACKAGE = pathlib.Path(__file__).resolve().parent.parent / "signbench"
 FILES = sorted(PACKAGE.glob("*.py"))
+TREES = [(path.name, ast.parse(path.read_text("utf-8"))) for path in FILES]
 OWN_NAMES = set((
     "len range enumerate zip min max sum abs sorted reversed int str bool bytes list tuple dict set isinstance "
     "ord repr any all divmod Exception ValueError TypeError KeyError IndexError LookupError ZeroDivisionError "
@@ -34,10 +35,10 @@ BARRED_NODES = (
 
 
 def nodes(kinds):
-    for path in FILES:
-        for node in ast.walk(ast.parse(path.read_text("utf-8"))):
+    for name, tree in TREES:
+        for node in ast.walk(tree):
             if isinstance(node, kinds):
-                yield f"{path.name}:{getattr(node, 'lineno', 0)}", node
+                yield f"{name}:{getattr(node, 'lineno', 0)}", node
 
 
 def defined_names():
@@ -141,9 +142,10 @@ class Form(unittest.TestCase):
             self.assertNotIn(node.id, ("set", "frozenset"), f"L24 {where}")
 
     def test_methods(self):
+        known = OWN_METHODS | defined_names() | {"__init__"}
         for where, node in nodes(ast.Call):
             if isinstance(node.func, ast.Attribute):
-                self.assertIn(node.func.attr, OWN_METHODS | defined_names() | {"__init__"}, f"L25 {where}")
+                self.assertIn(node.func.attr, known, f"L25 {where}")
 
     def test_is_stands_beside_none_and_truths_alone(self):
         for where, node in nodes(ast.Compare):
@@ -157,6 +159,30 @@ class Form(unittest.TestCase):
             self.assertNotIsInstance(node.value, (float, complex), f"L7 {where}")
             if isinstance(node.value, str):
                 self.assertNotIn("%", node.value, f"L27 {where}")
+
+    def test_errors_are_made_on_the_spot_and_taken_by_name(self):
+        errors = {node.name for where, node in nodes(ast.ClassDef) if where.startswith("errors.py")}
+        for where, node in nodes(ast.Raise):
+            self.assertIsInstance(node.exc, ast.Call, f"L19 {where}")
+            self.assertIn(getattr(node.exc.func, "id", None), errors, f"L19 {where}")
+            self.assertTrue(node.cause is None or ast.unparse(node.cause) == "None", f"L19 {where}")
+        for where, node in nodes(ast.ExceptHandler):
+            self.assertIn(getattr(node.type, "id", None), errors, f"L19 {where}")
+            self.assertIsNone(node.name, f"L19 {where}")
+        for where, node in nodes(ast.Try):
+            self.assertEqual(node.finalbody, [], f"L6 {where}")
+
+    def test_keywords(self):
+        for where, node in nodes(ast.Call):
+            for keyword in node.keywords:
+                self.assertEqual((ast.unparse(node.func), keyword.arg), ("enumerate", "start"), f"L22 {where}")
+
+    def test_values_that_are_asked_are_given(self):
+        called = {id(node.func) for where, node in nodes(ast.Call)}
+        given = {node.attr for where, node in nodes(ast.Attribute) if isinstance(node.ctx, ast.Store)}
+        for where, node in nodes(ast.Attribute):
+            if id(node) not in called:
+                self.assertIn(node.attr, given, f"L18 {where}")
 
     def test_values_and_methods_have_names_of_their_own(self):
         methods = {
